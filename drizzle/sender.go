@@ -120,7 +120,23 @@ func sumOf(data string, block int, row uint32) []byte {
 }
 
 // Handle takes a frame in (P7).
-func (s *Sender) Handle(frame string) {}
+func (s *Sender) Handle(frame string) {
+	s.lock.Lock()
+	defer s.lock.Unlock()
+	if s.sending() && frame == doneText(s.ended+1, s.config.Block) {
+		s.end(api.Done)
+	}
+}
+
+// sending is whether the object whose turn it is has begun to be sent.
+func (s *Sender) sending() bool {
+	return s.ended < len(s.objects) && s.objects[s.ended].status.State == api.Sending
+}
+
+// doneText is the one frame by which all receivers of a network say that an object is done: the sender need not read what comes, but holds it against this.
+func doneText(number int, block int) string {
+	return wire.Done{Number: number, Block: block}.Text()
+}
 
 // Status tells of an object (P5).
 func (s *Sender) Status(number int) (api.Status, api.Errno) {

@@ -176,17 +176,21 @@ func TestFramesOfEachObjectBeginAtItsOwnFirstRow(t *testing.T) {
 	}
 }
 
+var badConfigs = []api.Config{
+	{Block: 0, Budget: 20}, {Block: 33, Budget: 20}, {Block: -1, Budget: 20}, {Block: math.MinInt, Budget: 20}, {Block: math.MaxInt, Budget: 20},
+	{Block: 4, Budget: 0}, {Block: 4, Budget: 1001}, {Block: 4, Budget: -1}, {Block: 4, Budget: math.MinInt}, {Block: 4, Budget: math.MaxInt},
+	{}, {Block: -1, Budget: -1}, {Block: 33, Budget: 1001}, {Block: 32, Budget: 1001}, {Block: 33, Budget: 1000}, {Block: 1, Budget: 0}, {Block: 0, Budget: 1},
+}
+
+var outermostConfigs = []api.Config{{Block: 1, Budget: 1}, {Block: 32, Budget: 1}, {Block: 1, Budget: 1000}, {Block: 32, Budget: 1000}}
+
 func TestConfig(t *testing.T) {
-	for _, c := range []api.Config{
-		{Block: 0, Budget: 20}, {Block: 33, Budget: 20}, {Block: -1, Budget: 20}, {Block: math.MinInt, Budget: 20}, {Block: math.MaxInt, Budget: 20},
-		{Block: 4, Budget: 0}, {Block: 4, Budget: 1001}, {Block: 4, Budget: -1}, {Block: 4, Budget: math.MinInt}, {Block: 4, Budget: math.MaxInt},
-		{}, {Block: -1, Budget: -1}, {Block: 33, Budget: 1001}, {Block: 32, Budget: 1001}, {Block: 33, Budget: 1000}, {Block: 1, Budget: 0}, {Block: 0, Budget: 1},
-	} {
+	for _, c := range badConfigs {
 		if s, e := NewSender(c); s != nil || e != api.ErrSize {
 			t.Errorf("P5: NewSender(%+v) = %v, %d, want nil, ErrSize", c, s, e)
 		}
 	}
-	for _, c := range []api.Config{{Block: 1, Budget: 1}, {Block: 32, Budget: 1}, {Block: 1, Budget: 1000}, {Block: 32, Budget: 1000}} {
+	for _, c := range outermostConfigs {
 		s := newSender(t, c.Block, c.Budget)
 		wantNothing(t, s)
 	}
@@ -337,10 +341,15 @@ func TestBudget(t *testing.T) {
 func TestOfAnEndedObjectTheStatusAloneIsKept(t *testing.T) {
 	s := newSender(t, 4, 1)
 	wantSubmit(t, s, "hello", 9, 1)
+	wantSubmit(t, s, "hello", 9, 2)
 	wantFrame(t, s)
 	wantNothing(t, s)
-	if got, want := s.objects[0], (object{status: api.Status{State: api.Failed, Sent: 1}}); got != want {
-		t.Errorf("of an object that is Failed %+v is kept, want %+v", got, want)
+	wantFrame(t, s)
+	s.Handle(doneOf(2, 4))
+	for i, state := range []api.State{api.Failed, api.Done} {
+		if got, want := s.objects[i], (object{status: api.Status{State: state, Sent: 1}}); got != want {
+			t.Errorf("of an object that has ended %+v is kept, want %+v", got, want)
+		}
 	}
 }
 
@@ -366,21 +375,8 @@ func answers(t *testing.T, disturb func(s *Sender, last []string)) []any {
 func leaveAlone(*Sender, []string) {}
 
 func TestListsAreNewMemory(t *testing.T) {
-	var earlier [][]string
-	var kept []string
-	scribbled := answers(t, func(_ *Sender, last []string) {
-		for i, l := range earlier {
-			if strings.Join(l, "|") != kept[i] {
-				t.Fatalf("P2: the list of an earlier tick changed to %x", l)
-			}
-		}
-		spare := last[:cap(last)]
-		for i := range spare {
-			spare[i] = "scribble"
-		}
-		_ = append(last, "more")
-		earlier, kept = append(earlier, last), append(kept, strings.Join(last, "|"))
-	})
+	scribble := scribbler(t)
+	scribbled := answers(t, func(_ *Sender, last []string) { scribble(last) })
 	if !reflect.DeepEqual(scribbled, answers(t, leaveAlone)) {
 		t.Error("P2: what was written into the lists of Tick changed later answers")
 	}
