@@ -3,8 +3,6 @@ package drizzle
 import (
 	"math/rand"
 	"slices"
-	"strings"
-	"sync"
 	"testing"
 
 	"drizzle/api"
@@ -287,47 +285,5 @@ func wantDoneOverFairLoss(t *testing.T, s *Sender, r *Receiver, blocks, f, budge
 	}
 	if got, _ := s.Status(1); got.State != api.Done {
 		t.Fatalf("P11: an object of %d blocks is %+v behind %d frames, of which one of %d arrives", blocks, got, budget, f)
-	}
-}
-
-func TestNetworkOfSeveralGoroutines(t *testing.T) {
-	const workers, objects = 6, 90
-	s, r := newSender(t, 4, 200), newReceiver(t, 4, 200)
-	var taken [workers][]parcel
-	var all sync.WaitGroup
-	for w := range workers {
-		all.Go(func() {
-			for range 4000 {
-				s.Submit(strings.Repeat("drizzle", 3), uint64(w))
-				for _, frame := range s.Tick() {
-					for _, back := range r.Handle(frame) {
-						s.Handle(back)
-					}
-				}
-				r.Rank()
-				if data, n, e := r.Take(); e == api.OK {
-					taken[w] = append(taken[w], parcel{data: data, number: n})
-				}
-			}
-		})
-	}
-	all.Wait()
-	count := map[int]int{}
-	for _, l := range taken {
-		for _, p := range l {
-			count[p.number]++
-			if p.data != strings.Repeat("drizzle", 3) {
-				t.Fatalf("P10: object %d came out as %x", p.number, p.data)
-			}
-		}
-	}
-	for n := 1; n <= objects; n++ {
-		status, _ := s.Status(n)
-		if count[n] > 1 || status.State == api.Done && count[n] != 1 {
-			t.Errorf("P10: object %d, %+v, was taken %d times", n, status, count[n])
-		}
-		if status.State != api.Done && status.State != api.Failed {
-			t.Errorf("P6: object %d is %+v at the end", n, status)
-		}
 	}
 }

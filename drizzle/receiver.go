@@ -9,9 +9,9 @@ import (
 	"drizzle/wire"
 )
 
-// Receiver delivers the objects that a Sender sends.
+// Receiver delivers the objects that a Sender sends. Several goroutines may call it at one time.
 type Receiver struct {
-	lock      sync.Mutex
+	lock      sync.Mutex // held as the Sender's is
 	block     int
 	last      api.Rank // of the object that came last
 	length    int      // of the object that came last

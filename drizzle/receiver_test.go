@@ -5,8 +5,6 @@ import (
 	"math/rand"
 	"reflect"
 	"strings"
-	"sync"
-	"sync/atomic"
 	"testing"
 
 	"drizzle/api"
@@ -408,62 +406,4 @@ func TestReceiversDoNotDisturbOneAnother(t *testing.T) {
 	if !reflect.DeepEqual(beside, receiverAnswers(t, func([]string) {})) {
 		t.Error("P2: another receiver changed the answers")
 	}
-}
-
-func TestReceiverOfSeveralGoroutines(t *testing.T) {
-	const workers, objects = 8, 60
-	r := newReceiver(t, 3, 20)
-	var taken [workers][]parcel
-	for n := 1; n <= objects; n++ {
-		data := bytesOf(32*3 - n%3)
-		var all sync.WaitGroup
-		for w := range workers {
-			all.Go(func() {
-				for j := range 32 {
-					r.Handle(frameOf(n, data, 3, 1<<((j+4*w)%32)))
-					r.Rank()
-					if data, n, e := r.Take(); e == api.OK {
-						taken[w] = append(taken[w], parcel{data: data, number: n})
-					}
-				}
-			})
-		}
-		all.Wait()
-		wantRank(t, r, n, 32, 32)
-	}
-	count := map[int]int{}
-	for _, l := range taken {
-		for _, p := range l {
-			count[p.number]++
-			if p.data != bytesOf(32*3-p.number%3) {
-				t.Errorf("P9: object %d came out as %x", p.number, p.data)
-			}
-		}
-	}
-	for n := 1; n <= objects; n++ {
-		if count[n] != 1 {
-			t.Errorf("P9: object %d was taken %d times", n, count[n])
-		}
-	}
-	wantNoneToTake(t, r)
-}
-
-func TestRankBesideFrames(t *testing.T) {
-	r := newReceiver(t, 32, 20)
-	var all sync.WaitGroup
-	var ended atomic.Bool
-	all.Go(func() {
-		for n := 1; n <= api.MaxNumber; n++ {
-			r.Handle(frameOf(n, bytesOf(32*(2+n%30)), 32, 1))
-		}
-		ended.Store(true)
-	})
-	for !ended.Load() {
-		if got := r.Rank(); got.Number > 0 && (got.Rank != 1 || got.Blocks != 2+got.Number%30) {
-			t.Errorf("P8: Rank() = %+v in the midst of a frame", got)
-			break
-		}
-	}
-	all.Wait()
-	wantRank(t, r, api.MaxNumber, 1, 2+api.MaxNumber%30)
 }

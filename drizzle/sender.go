@@ -8,9 +8,9 @@ import (
 	"drizzle/wire"
 )
 
-// Sender sends objects, in the order in which they were submitted.
+// Sender sends objects, in the order in which they were submitted. Several goroutines may call it at one time.
 type Sender struct {
-	lock    sync.Mutex
+	lock    sync.Mutex // each call holds it from its start to its end, so that it is as if the calls came one behind the other
 	config  api.Config
 	objects []object // object n stands at n-1
 	ended   int      // so many objects are Done or Failed: always the first ones, as each has its turn behind the one ahead

@@ -7,7 +7,6 @@ import (
 	"math"
 	"reflect"
 	"strings"
-	"sync"
 	"testing"
 
 	"drizzle/api"
@@ -402,37 +401,5 @@ func TestSendersDoNotDisturbOneAnother(t *testing.T) {
 	})
 	if !reflect.DeepEqual(beside, answers(t, leaveAlone)) {
 		t.Error("P2: another sender changed the answers")
-	}
-}
-
-func TestSenderOfSeveralGoroutines(t *testing.T) {
-	const budget, workers = 5, 8
-	s := newSender(t, 4, budget)
-	var frames [workers][]string
-	var all sync.WaitGroup
-	for w := range workers {
-		all.Go(func() {
-			for i := range 600 {
-				s.Submit("hello", uint64(i))
-				frames[w] = append(frames[w], s.Tick()...)
-				s.Status(i)
-			}
-		})
-	}
-	all.Wait()
-	for range api.MaxWait * (budget + 1) * 2 { // whatever is left
-		frames[0] = append(frames[0], s.Tick()...)
-	}
-	sent := map[int]int{}
-	for _, l := range frames {
-		for _, text := range l {
-			sent[read(t, text).number]++
-		}
-	}
-	for n := 1; n <= api.MaxNumber; n++ {
-		wantStatus(t, s, n, api.Failed, budget)
-		if sent[n] != budget {
-			t.Errorf("P6: of object %d %d frames were sent, want %d", n, sent[n], budget)
-		}
 	}
 }
